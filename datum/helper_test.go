@@ -7,6 +7,7 @@ import (
 
 	"seamark/api"
 	"seamark/datum"
+	"seamark/internal/expect"
 )
 
 const (
@@ -34,27 +35,6 @@ func moved() api.Datum   { return api.Datum{A: million, E: million, C: 5, F: 5} 
 
 // stretch returns the datum that multiplies by these millionths.
 func stretch(a, e int) api.Datum { return api.Datum{A: a, E: e} }
-
-// ok returns what a call returns, and fails the test if it is not OK.
-func ok[T any](t *testing.T) func(T, api.Errno) T {
-	return func(v T, e api.Errno) T {
-		t.Helper()
-		if e != api.OK {
-			t.Fatalf("%v is not OK", e)
-		}
-		return v
-	}
-}
-
-// pair holds what a call returns.
-type pair[T comparable] struct {
-	value T
-	e     api.Errno
-}
-
-func result[T comparable](v T, e api.Errno) pair[T] { return pair[T]{v, e} }
-
-func fails[T comparable](e api.Errno) pair[T] { return pair[T]{e: e} }
 
 // chance returns numbers that are the same in each run.
 func chance() *rand.Rand { return rand.New(rand.NewPCG(4, 8)) }
@@ -209,7 +189,7 @@ func fitting(t *testing.T, m api.Datum, p api.Point) []api.Point {
 	var out []api.Point
 	b, _ := reach(m, p)
 	for _, q := range around(b) {
-		if ok[bool](t)(datum.Fits(m, p, q)) {
+		if expect.OK[bool](t)(datum.Fits(m, p, q)) {
 			out = append(out, q)
 		}
 	}

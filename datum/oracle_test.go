@@ -4,6 +4,7 @@ import (
 	"math/big"
 
 	"seamark/api"
+	"seamark/internal/expect"
 )
 
 // The oracle computes by fractions, with maps whose factors are not in millionths.
@@ -132,7 +133,7 @@ func corners(x, y api.Span, f func(x, y *big.Rat)) {
 }
 
 // carried returns what Carry has to return.
-func carried(m api.Datum, b api.Box) pair[api.Box] {
+func carried(m api.Datum, b api.Box) expect.Pair[api.Box] {
 	var x, y ends
 	corners(b.X, b.Y, func(a, b *big.Rat) {
 		q := plotOf(m).of(a, b)
@@ -141,9 +142,9 @@ func carried(m api.Datum, b api.Box) pair[api.Box] {
 	})
 	out := api.Box{X: x.outward(m.Residue), Y: y.outward(m.Residue)}
 	if !isBox(out) {
-		return fails[api.Box](api.ErrRange)
+		return expect.Fails[api.Box](api.ErrRange)
 	}
-	return result(out, api.OK)
+	return expect.Result(out, api.OK)
 }
 
 // reach returns the box of the points that p may have, and whether it is valid.
@@ -154,7 +155,7 @@ func reach(m api.Datum, p api.Point) (api.Box, bool) {
 }
 
 // led returns what Back has to return.
-func led(m api.Datum, b api.Box) pair[api.Box] {
+func led(m api.Datum, b api.Box) expect.Pair[api.Box] {
 	back := plotOf(m).inverse()
 	free := func(s api.Span, shift int) api.Span {
 		return api.Span{Lo: s.Lo - shift - m.Residue, Hi: s.Hi - shift + m.Residue}
@@ -167,9 +168,9 @@ func led(m api.Datum, b api.Box) pair[api.Box] {
 	})
 	out := api.Box{X: x.inward(), Y: y.inward()}
 	if !isBox(out) {
-		return fails[api.Box](api.ErrNone)
+		return expect.Fails[api.Box](api.ErrNone)
 	}
-	return result(out, api.OK)
+	return expect.Result(out, api.OK)
 }
 
 // weighed returns n times a number of millionths, rounded up.
@@ -178,15 +179,15 @@ func weighed(n, parts int) int {
 }
 
 // checked returns a datum, or ErrRange for one that is not valid.
-func checked(m api.Datum) pair[api.Datum] {
+func checked(m api.Datum) expect.Pair[api.Datum] {
 	if !isDatum(m) {
-		return fails[api.Datum](api.ErrRange)
+		return expect.Fails[api.Datum](api.ErrRange)
 	}
-	return result(m, api.OK)
+	return expect.Result(m, api.OK)
 }
 
 // joined returns what Then has to return.
-func joined(m, n api.Datum) pair[api.Datum] {
+func joined(m, n api.Datum) expect.Pair[api.Datum] {
 	first, next := plotOf(m), plotOf(n)
 	var factors plot
 	for i, r := range next {
@@ -202,7 +203,7 @@ func joined(m, n api.Datum) pair[api.Datum] {
 }
 
 // undone returns what Undo has to return.
-func undone(m api.Datum) pair[api.Datum] {
+func undone(m api.Datum) expect.Pair[api.Datum] {
 	out, weight := plotOf(m).inverse().parts()
 	shift := plotOf(out).of(rat(-m.C), rat(-m.F))
 	out.C, out.F = rounded(shift[0]), rounded(shift[1])

@@ -5,6 +5,7 @@ import (
 
 	"seamark/api"
 	"seamark/datum"
+	"seamark/internal/expect"
 	"seamark/span"
 )
 
@@ -28,7 +29,7 @@ func TestNothingIsLost(t *testing.T) {
 			if e == api.OK && !hasPlace(b, q) {
 				t.Errorf("%v is not in Apply of %v to %v", q, m, p)
 			}
-			if back := ok[api.Box](t)(datum.Back(m, only(q))); !hasPlace(back, p) {
+			if back := expect.OK[api.Box](t)(datum.Back(m, only(q))); !hasPlace(back, p) {
 				t.Errorf("%v is not in Back of %v and %v", p, m, q)
 			}
 			led++
@@ -76,7 +77,7 @@ func TestNothingIsLostOfBoxes(t *testing.T) {
 // P4.3: Apply is Carry of the box of the place, with the same error.
 func TestApplyIsCarry(t *testing.T) {
 	each(places(), func(m api.Datum, p api.Point) {
-		applied, carried := result(datum.Apply(m, p)), result(datum.Carry(m, only(p)))
+		applied, carried := expect.Result(datum.Apply(m, p)), expect.Result(datum.Carry(m, only(p)))
 		if applied != carried {
 			t.Errorf("Apply of %v to %v: %v, and Carry: %v", m, p, applied, carried)
 		}
@@ -89,12 +90,12 @@ func TestBoxesWithin(t *testing.T) {
 	for _, m := range sample(datums(), 2) {
 		for _, inner := range boxes() {
 			for _, b := range sample(boxes(), 4) {
-				outer := ok[api.Box](t)(span.JoinBox(inner, b))
+				outer := expect.OK[api.Box](t)(span.JoinBox(inner, b))
 				small, e := datum.Carry(m, inner)
 				great, e2 := datum.Carry(m, outer)
 				if e == api.OK && e2 == api.OK {
 					carried++
-					if !ok[bool](t)(span.WithinBox(small, great)) {
+					if !expect.OK[bool](t)(span.WithinBox(small, great)) {
 						t.Errorf("Carry of %v and %v is not within that of %v", m, inner, outer)
 					}
 				}
@@ -102,7 +103,7 @@ func TestBoxesWithin(t *testing.T) {
 				great, e2 = datum.Back(m, outer)
 				if e == api.OK {
 					led++
-					if e2 != api.OK || !ok[bool](t)(span.WithinBox(small, great)) {
+					if e2 != api.OK || !expect.OK[bool](t)(span.WithinBox(small, great)) {
 						t.Errorf("Back of %v and %v is not within that of %v", m, inner, outer)
 					}
 				}
@@ -127,7 +128,7 @@ func TestOneAfterTheOther(t *testing.T) {
 				for _, q := range sample(fitting(t, m, p), 3) {
 					for _, r := range sample(fitting(t, n, q), 3) {
 						count++
-						if !ok[bool](t)(datum.Fits(both, p, r)) {
+						if !expect.OK[bool](t)(datum.Fits(both, p, r)) {
 							t.Errorf("%v, %v, %v by %v and %v do not fit by %v", p, q, r, m, n, both)
 						}
 					}
@@ -151,7 +152,7 @@ func TestThereAndBackFits(t *testing.T) {
 		for _, p := range places() {
 			for _, q := range fitting(t, m, p) {
 				count++
-				if !ok[bool](t)(datum.Fits(back, q, p)) {
+				if !expect.OK[bool](t)(datum.Fits(back, q, p)) {
 					t.Errorf("%v and %v by %v do not fit by %v", p, q, m, back)
 				}
 			}
@@ -171,7 +172,7 @@ func TestResidues(t *testing.T) {
 			wider := m
 			wider.Residue = min(n, api.MaxResidue)
 			for _, q := range around(b) {
-				before, after := ok[bool](t)(datum.Fits(m, p, q)), ok[bool](t)(datum.Fits(wider, p, q))
+				before, after := expect.OK[bool](t)(datum.Fits(m, p, q)), expect.OK[bool](t)(datum.Fits(wider, p, q))
 				if before && !after {
 					t.Errorf("%v and %v fit by %v, but not with %d", p, q, m, wider.Residue)
 				}
@@ -229,7 +230,7 @@ func TestMoving(t *testing.T) {
 			for _, q := range near {
 				if q = at(q.X+by.X, q.Y+by.Y); hasPlace(box(-most, most, -most, most), q) {
 					fitted++
-					if !ok[bool](t)(datum.Fits(far, p, q)) {
+					if !expect.OK[bool](t)(datum.Fits(far, p, q)) {
 						t.Errorf("%v and %v do not fit by %v", p, q, far)
 					}
 				}
@@ -268,7 +269,7 @@ func TestMovingBoxes(t *testing.T) {
 			}
 			if moved := boxMoved(b, by.X, by.Y); isBox(moved) {
 				led++
-				if before, after := result(datum.Back(m, b)), result(datum.Back(far, moved)); before != after {
+				if before, after := expect.Result(datum.Back(m, b)), expect.Result(datum.Back(far, moved)); before != after {
 					t.Errorf("Back of %v and %v: %v, and not %v", far, moved, after, before)
 				}
 			}
@@ -288,7 +289,7 @@ func TestThereAndBack(t *testing.T) {
 			return
 		}
 		led++
-		back := ok[api.Box](t)(datum.Back(m, there))
+		back := expect.OK[api.Box](t)(datum.Back(m, there))
 		if !hasPlace(back, p) {
 			t.Errorf("Back of %v and %v: %v, without %v", m, there, back, p)
 		}
@@ -297,7 +298,7 @@ func TestThereAndBack(t *testing.T) {
 			return
 		}
 		carried++
-		if !ok[bool](t)(span.WithinBox(there, again)) {
+		if !expect.OK[bool](t)(span.WithinBox(there, again)) {
 			t.Errorf("Carry of %v and %v has not all of %v", m, back, there)
 		}
 	})

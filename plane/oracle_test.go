@@ -2,7 +2,6 @@ package plane_test
 
 import (
 	"math/big"
-	"testing"
 
 	"seamark/api"
 )
@@ -134,16 +133,5 @@ func eachFour(f func(a, b, c, d api.Point)) {
 				}
 			}
 		}
-	}
-}
-
-// ok returns what a call returns, and fails the test if it is not OK.
-func ok[T any](t *testing.T) func(T, api.Errno) T {
-	return func(v T, e api.Errno) T {
-		t.Helper()
-		if e != api.OK {
-			t.Fatalf("%v is not OK", e)
-		}
-		return v
 	}
 }

@@ -6,6 +6,7 @@ import (
 	"testing"
 
 	"seamark/api"
+	"seamark/internal/expect"
 	"seamark/plane"
 )
 
@@ -71,19 +72,19 @@ var beyond = []int{-most - 1, most + 1, 2 * most, -1 << 32, 1 << 32, math.MinInt
 // P1.1, A2, A3, A5 and A9: turns and distances of a place and a segment are those of the oracle.
 func TestPlaceAndSegment(t *testing.T) {
 	eachTriple(func(p, a, b api.Point) {
-		if n := ok[int](t)(plane.Turn(p, a, b)); n != slope(p, a, p, b).Sign() {
+		if n := expect.OK[int](t)(plane.Turn(p, a, b)); n != slope(p, a, p, b).Sign() {
 			t.Errorf("Turn of %v, %v, %v: %d", p, a, b, n)
 		}
 		square := squareToSegment(p, a, b)
-		if on := ok[bool](t)(plane.On(p, a, b)); on != (square.Sign() == 0) {
+		if on := expect.OK[bool](t)(plane.On(p, a, b)); on != (square.Sign() == 0) {
 			t.Errorf("On of %v, %v to %v: %v", p, a, b, on)
 		}
 		for _, d := range around(square) {
 			sign := square.Cmp(mul(rat(d), rat(d)))
-			if near := ok[bool](t)(plane.Near(p, a, b, d)); near != (sign <= 0) {
+			if near := expect.OK[bool](t)(plane.Near(p, a, b, d)); near != (sign <= 0) {
 				t.Errorf("Near of %v, %v to %v, %d: %v", p, a, b, d, near)
 			}
-			if apart := ok[bool](t)(plane.Apart(p, a, b, d)); apart != (sign >= 0) {
+			if apart := expect.OK[bool](t)(plane.Apart(p, a, b, d)); apart != (sign >= 0) {
 				t.Errorf("Apart of %v, %v to %v, %d: %v", p, a, b, d, apart)
 			}
 		}
@@ -94,12 +95,12 @@ func TestPlaceAndSegment(t *testing.T) {
 func TestSegments(t *testing.T) {
 	eachFour(func(a, b, c, d api.Point) {
 		square := squareOfSegments(a, b, c, d)
-		if meet := ok[bool](t)(plane.Meet(a, b, c, d)); meet != (square.Sign() == 0) {
+		if meet := expect.OK[bool](t)(plane.Meet(a, b, c, d)); meet != (square.Sign() == 0) {
 			t.Errorf("Meet of %v to %v, and %v to %v: %v", a, b, c, d, meet)
 		}
 		for _, r := range around(square) {
 			within := square.Cmp(mul(rat(r), rat(r))) <= 0
-			if near := ok[bool](t)(plane.Close(a, b, c, d, r)); near != within {
+			if near := expect.OK[bool](t)(plane.Close(a, b, c, d, r)); near != within {
 				t.Errorf("Close of %v to %v, and %v to %v, %d: %v", a, b, c, d, r, near)
 			}
 		}
@@ -117,13 +118,13 @@ func TestHardly(t *testing.T) {
 		{at(178345, 654679), true, true},
 		{at(177845, 654678), false, true},
 	} {
-		if near := ok[bool](t)(plane.Near(x.p, a, b, 654321)); near != x.near {
+		if near := expect.OK[bool](t)(plane.Near(x.p, a, b, 654321)); near != x.near {
 			t.Errorf("Near of %v: %v", x.p, near)
 		}
-		if apart := ok[bool](t)(plane.Apart(x.p, a, b, 654321)); apart != x.apart {
+		if apart := expect.OK[bool](t)(plane.Apart(x.p, a, b, 654321)); apart != x.apart {
 			t.Errorf("Apart of %v: %v", x.p, apart)
 		}
-		if near := ok[bool](t)(plane.Close(x.p, at(x.p.X, most), b, a, 654321)); near != x.near {
+		if near := expect.OK[bool](t)(plane.Close(x.p, at(x.p.X, most), b, a, 654321)); near != x.near {
 			t.Errorf("Close of %v: %v", x.p, near)
 		}
 	}
@@ -149,21 +150,21 @@ func TestEdges(t *testing.T) {
 		{at(-most, -most), at(most, most), at(-most, 1-most), at(most-1, most), false},
 		{at(-most, -most), at(most, most), at(0, 1), at(-most, most), false},
 	} {
-		if meet := ok[bool](t)(plane.Meet(x.a, x.b, x.c, x.d)); meet != x.meet {
+		if meet := expect.OK[bool](t)(plane.Meet(x.a, x.b, x.c, x.d)); meet != x.meet {
 			t.Errorf("case %d: Meet: %v", i, meet)
 		}
-		if near := ok[bool](t)(plane.Close(x.a, x.b, x.c, x.d, 0)); near != x.meet {
+		if near := expect.OK[bool](t)(plane.Close(x.a, x.b, x.c, x.d, 0)); near != x.meet {
 			t.Errorf("case %d: Close within 0: %v", i, near)
 		}
-		if near := ok[bool](t)(plane.Close(x.a, x.b, x.c, x.d, api.MaxDist)); !near {
+		if near := expect.OK[bool](t)(plane.Close(x.a, x.b, x.c, x.d, api.MaxDist)); !near {
 			t.Errorf("case %d: not Close within the limit", i)
 		}
 	}
 	far, near := at(-most, -most), at(most, most)
-	if !ok[bool](t)(plane.Near(far, near, near, api.MaxDist)) || ok[bool](t)(plane.Apart(far, near, near, api.MaxDist)) {
+	if !expect.OK[bool](t)(plane.Near(far, near, near, api.MaxDist)) || expect.OK[bool](t)(plane.Apart(far, near, near, api.MaxDist)) {
 		t.Error("all places are nearer than the limit")
 	}
-	if !ok[bool](t)(plane.Apart(far, near, near, 0)) || ok[bool](t)(plane.Near(far, near, near, 0)) {
+	if !expect.OK[bool](t)(plane.Apart(far, near, near, 0)) || expect.OK[bool](t)(plane.Near(far, near, near, 0)) {
 		t.Error("the corners are apart")
 	}
 }
@@ -179,7 +180,7 @@ func TestDist(t *testing.T) {
 			if down.Mul(down, down).Cmp(n) != 0 {
 				want.Hi++
 			}
-			if s := ok[api.Span](t)(plane.Dist(a, b)); s != want {
+			if s := expect.OK[api.Span](t)(plane.Dist(a, b)); s != want {
 				t.Errorf("Dist of %v and %v: %v, not %v", a, b, s, want)
 			}
 		}
@@ -193,7 +194,7 @@ func TestDist(t *testing.T) {
 		{at(-most, 0), at(most, 0), api.Span{Lo: 2000000, Hi: 2000000}},
 		{at(-most, 0), at(most, 1), api.Span{Lo: 2000000, Hi: 2000001}},
 	} {
-		if s := ok[api.Span](t)(plane.Dist(x.a, x.b)); s != x.want {
+		if s := expect.OK[api.Span](t)(plane.Dist(x.a, x.b)); s != x.want {
 			t.Errorf("case %d: %v", i, s)
 		}
 	}
@@ -209,7 +210,7 @@ func TestLies(t *testing.T) {
 				if r+gap > api.MaxDist {
 					continue
 				}
-				if lies := ok[bool](t)(plane.Lies(p, r, q, r+gap)); lies != (n.Cmp(mul(rat(gap), rat(gap))) <= 0) {
+				if lies := expect.OK[bool](t)(plane.Lies(p, r, q, r+gap)); lies != (n.Cmp(mul(rat(gap), rat(gap))) <= 0) {
 					t.Errorf("Lies of %v with %d in %v with %d: %v", p, r, q, r+gap, lies)
 				}
 			}
@@ -233,7 +234,7 @@ func TestLies(t *testing.T) {
 		{at(-most, -most), 171572, at(most, most), api.MaxDist, true},
 		{at(-most, -most), 171573, at(most, most), api.MaxDist, false},
 	} {
-		if lies := ok[bool](t)(plane.Lies(x.p, x.r, x.q, x.s)); lies != x.want {
+		if lies := expect.OK[bool](t)(plane.Lies(x.p, x.r, x.q, x.s)); lies != x.want {
 			t.Errorf("case %d: %v", i, lies)
 		}
 	}

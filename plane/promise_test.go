@@ -4,12 +4,13 @@ import (
 	"testing"
 
 	"seamark/api"
+	"seamark/internal/expect"
 	"seamark/plane"
 )
 
 // P1.2: three places turn the same way from whichever they are counted, and the other way if two are exchanged.
 func TestTurns(t *testing.T) {
-	turn := func(a, b, c api.Point) int { return ok[int](t)(plane.Turn(a, b, c)) }
+	turn := func(a, b, c api.Point) int { return expect.OK[int](t)(plane.Turn(a, b, c)) }
 	left := 0
 	eachTriple(func(a, b, c api.Point) {
 		n := turn(a, b, c)
@@ -40,17 +41,17 @@ func orders(a, b, c, d api.Point) [][4]api.Point {
 func TestMeeting(t *testing.T) {
 	places := small(3)
 	eachFour(func(a, b, c, d api.Point) {
-		meet := ok[bool](t)(plane.Meet(a, b, c, d))
+		meet := expect.OK[bool](t)(plane.Meet(a, b, c, d))
 		for _, o := range orders(a, b, c, d) {
-			if ok[bool](t)(plane.Meet(o[0], o[1], o[2], o[3])) != meet {
+			if expect.OK[bool](t)(plane.Meet(o[0], o[1], o[2], o[3])) != meet {
 				t.Errorf("Meet of %v differs from another order", o)
 			}
 		}
-		if ok[bool](t)(plane.Close(a, b, c, d, 0)) != meet {
+		if expect.OK[bool](t)(plane.Close(a, b, c, d, 0)) != meet {
 			t.Errorf("Meet of %v to %v, and %v to %v, is not Close within 0", a, b, c, d)
 		}
 		for _, p := range places {
-			if !meet && ok[bool](t)(plane.On(p, a, b)) && ok[bool](t)(plane.On(p, c, d)) {
+			if !meet && expect.OK[bool](t)(plane.On(p, a, b)) && expect.OK[bool](t)(plane.On(p, c, d)) {
 				t.Errorf("%v to %v, and %v to %v, have %v and do not meet", a, b, c, d, p)
 			}
 		}
@@ -59,10 +60,10 @@ func TestMeeting(t *testing.T) {
 
 // P1.4: what near and apart have to do with places on the segment, with each other, and with greater distances.
 func TestNearAndApart(t *testing.T) {
-	near := func(p, a, b api.Point, d int) bool { return ok[bool](t)(plane.Near(p, a, b, d)) }
-	apart := func(p, a, b api.Point, d int) bool { return ok[bool](t)(plane.Apart(p, a, b, d)) }
+	near := func(p, a, b api.Point, d int) bool { return expect.OK[bool](t)(plane.Near(p, a, b, d)) }
+	apart := func(p, a, b api.Point, d int) bool { return expect.OK[bool](t)(plane.Apart(p, a, b, d)) }
 	eachTriple(func(p, a, b api.Point) {
-		if near(p, a, b, 0) != ok[bool](t)(plane.On(p, a, b)) {
+		if near(p, a, b, 0) != expect.OK[bool](t)(plane.On(p, a, b)) {
 			t.Errorf("%v is near %v to %v, or on it, and not both", p, a, b)
 		}
 		for _, d := range around(squareToSegment(p, a, b)) {
@@ -83,7 +84,7 @@ func TestNearAndApart(t *testing.T) {
 	for _, list := range [][]api.Point{small(3), wide()} {
 		eachOn(t, list, func(q, a, b api.Point) {
 			for _, p := range list {
-				if d := ok[api.Span](t)(plane.Dist(p, q)).Hi; !near(p, a, b, d) {
+				if d := expect.OK[api.Span](t)(plane.Dist(p, q)).Hi; !near(p, a, b, d) {
 					t.Errorf("%v is not near %v to %v, and %d from %v there", p, a, b, d, q)
 				}
 			}
@@ -96,7 +97,7 @@ func eachOn(t *testing.T, list []api.Point, f func(q, a, b api.Point)) {
 	for _, a := range list {
 		for _, b := range list {
 			for _, q := range list {
-				if ok[bool](t)(plane.On(q, a, b)) {
+				if expect.OK[bool](t)(plane.On(q, a, b)) {
 					f(q, a, b)
 				}
 			}
@@ -106,7 +107,7 @@ func eachOn(t *testing.T, list []api.Point, f func(q, a, b api.Point)) {
 
 // P1.5: the distance is symmetric, rounded by at most 1, and no way over a third place is shorter.
 func TestDistances(t *testing.T) {
-	dist := func(a, b api.Point) api.Span { return ok[api.Span](t)(plane.Dist(a, b)) }
+	dist := func(a, b api.Point) api.Span { return expect.OK[api.Span](t)(plane.Dist(a, b)) }
 	eachTriple(func(a, b, c api.Point) {
 		s := dist(a, c)
 		if s != dist(c, a) {
@@ -126,8 +127,8 @@ func TestDistances(t *testing.T) {
 
 // P1.6: discs within discs within discs; places of inner discs; places as discs.
 func TestDiscs(t *testing.T) {
-	lies := func(p api.Point, r int, q api.Point, s int) bool { return ok[bool](t)(plane.Lies(p, r, q, s)) }
-	holds := func(p, q api.Point, s int) bool { return ok[bool](t)(plane.Near(p, q, q, s)) }
+	lies := func(p api.Point, r int, q api.Point, s int) bool { return expect.OK[bool](t)(plane.Lies(p, r, q, s)) }
+	holds := func(p, q api.Point, s int) bool { return expect.OK[bool](t)(plane.Near(p, q, q, s)) }
 	within := 0
 	for _, list := range [][]api.Point{small(3), {at(-most, -most), at(most, most), at(0, 0), at(most, most-1)}} {
 		for _, far := range [][]int{{0, 1, 2, 3, 5}, {0, 1000000, 1414214, 2828428, api.MaxDist}} {
@@ -174,9 +175,9 @@ func eachTwoDiscs(list []api.Point, radii []int, f func(p api.Point, r int, q ap
 func TestCloseness(t *testing.T) {
 	eachFour(func(a, b, c, d api.Point) {
 		for _, r := range []int{0, 1, 2, 1000000} {
-			near := ok[bool](t)(plane.Close(a, b, c, d, r))
+			near := expect.OK[bool](t)(plane.Close(a, b, c, d, r))
 			for _, o := range orders(a, b, c, d) {
-				if ok[bool](t)(plane.Close(o[0], o[1], o[2], o[3], r)) != near {
+				if expect.OK[bool](t)(plane.Close(o[0], o[1], o[2], o[3], r)) != near {
 					t.Errorf("Close of %v, %d differs from another order", o, r)
 				}
 			}
@@ -185,8 +186,8 @@ func TestCloseness(t *testing.T) {
 	list := append(small(3), at(-most, -most), at(most, most))
 	eachOn(t, list, func(p, a, b api.Point) {
 		eachOn(t, list, func(q, c, d api.Point) {
-			r := ok[api.Span](t)(plane.Dist(p, q)).Hi
-			if !ok[bool](t)(plane.Close(a, b, c, d, r)) {
+			r := expect.OK[api.Span](t)(plane.Dist(p, q)).Hi
+			if !expect.OK[bool](t)(plane.Close(a, b, c, d, r)) {
 				t.Errorf("%v to %v, and %v to %v, are not close with %d, as %v and %v are", a, b, c, d, r, p, q)
 			}
 		})
@@ -202,14 +203,14 @@ type answers struct {
 
 func ask(t *testing.T, a, b, c, d api.Point, r int) answers {
 	return answers{
-		turn:   ok[int](t)(plane.Turn(a, b, c)),
-		on:     ok[bool](t)(plane.On(a, b, c)),
-		meet:   ok[bool](t)(plane.Meet(a, b, c, d)),
-		near:   ok[bool](t)(plane.Near(a, b, c, r)),
-		apart:  ok[bool](t)(plane.Apart(a, b, c, r)),
-		closer: ok[bool](t)(plane.Close(a, b, c, d, r)),
-		lies:   ok[bool](t)(plane.Lies(a, 1, d, r)),
-		dist:   ok[api.Span](t)(plane.Dist(a, b)),
+		turn:   expect.OK[int](t)(plane.Turn(a, b, c)),
+		on:     expect.OK[bool](t)(plane.On(a, b, c)),
+		meet:   expect.OK[bool](t)(plane.Meet(a, b, c, d)),
+		near:   expect.OK[bool](t)(plane.Near(a, b, c, r)),
+		apart:  expect.OK[bool](t)(plane.Apart(a, b, c, r)),
+		closer: expect.OK[bool](t)(plane.Close(a, b, c, d, r)),
+		lies:   expect.OK[bool](t)(plane.Lies(a, 1, d, r)),
+		dist:   expect.OK[api.Span](t)(plane.Dist(a, b)),
 	}
 }
 

@@ -5,7 +5,6 @@ import (
 	"math"
 	"math/rand/v2"
 	"slices"
-	"testing"
 
 	"seamark/api"
 )
@@ -30,17 +29,6 @@ func box(a, b, c, d int) api.Box {
 // bent is the polygon L of the chapter; whole has all places.
 func bent() []api.Point  { return path(0, 0, 4, 0, 4, 2, 2, 2, 2, 4, 0, 4) }
 func whole() []api.Point { return path(-most, -most, most, -most, most, most, -most, most) }
-
-// ok returns what a call returns, and fails the test if it is not OK.
-func ok[T any](t *testing.T) func(T, api.Errno) T {
-	return func(v T, e api.Errno) T {
-		t.Helper()
-		if e != api.OK {
-			t.Fatalf("%v is not OK", e)
-		}
-		return v
-	}
-}
 
 func byPlace(a, b api.Point) int { return cmp.Or(cmp.Compare(a.X, b.X), cmp.Compare(a.Y, b.Y)) }
 

@@ -7,6 +7,7 @@ import (
 	"testing"
 
 	"seamark/api"
+	"seamark/internal/expect"
 	"seamark/poly"
 )
 
@@ -17,18 +18,18 @@ func TestExamples(t *testing.T) {
 		q    api.Point
 		want int
 	}{{at(1, 3), 1}, {at(2, 3), 0}, {at(3, 3), -1}} {
-		if side := ok[int](t)(poly.In(x.q, l)); side != x.want {
+		if side := expect.OK[int](t)(poly.In(x.q, l)); side != x.want {
 			t.Errorf("In of %v: %d", x.q, side)
 		}
 	}
-	if area := ok[int](t)(poly.Area(l)); area != 24 {
+	if area := expect.OK[int](t)(poly.Area(l)); area != 24 {
 		t.Errorf("Area: %d", area)
 	}
 	for _, x := range []struct {
 		q    []api.Point
 		want bool
 	}{{path(0, 0, 4, 0, 0, 4), true}, {path(0, 0, 4, 0, 1, 4), false}} {
-		if holds := ok[bool](t)(poly.Holds(l, x.q)); holds != x.want {
+		if holds := expect.OK[bool](t)(poly.Holds(l, x.q)); holds != x.want {
 			t.Errorf("Holds of %v: %v", x.q, holds)
 		}
 	}
@@ -36,18 +37,18 @@ func TestExamples(t *testing.T) {
 		q       api.Point
 		r, want int
 	}{{at(1, 1), 1, 1}, {at(1, 1), 2, 0}, {at(4, 4), 1, -1}, {at(4, 4), 2, 0}} {
-		if disc := ok[int](t)(poly.Disc(l, x.q, x.r)); disc != x.want {
+		if disc := expect.OK[int](t)(poly.Disc(l, x.q, x.r)); disc != x.want {
 			t.Errorf("Disc about %v with %d: %d", x.q, x.r, disc)
 		}
 	}
-	if hull := ok[[]api.Point](t)(poly.Hull(l)); !slices.Equal(hull, path(0, 0, 4, 0, 4, 2, 2, 4, 0, 4)) {
+	if hull := expect.OK[[]api.Point](t)(poly.Hull(l)); !slices.Equal(hull, path(0, 0, 4, 0, 4, 2, 2, 4, 0, 4)) {
 		t.Errorf("Hull: %v", hull)
 	}
-	b := ok[api.Box](t)(poly.Box(l))
+	b := expect.OK[api.Box](t)(poly.Box(l))
 	if b != box(0, 4, 0, 4) {
 		t.Errorf("Box: %v", b)
 	}
-	if rect := ok[[]api.Point](t)(poly.Rect(b)); !slices.Equal(rect, path(0, 0, 4, 0, 4, 4, 0, 4)) {
+	if rect := expect.OK[[]api.Point](t)(poly.Rect(b)); !slices.Equal(rect, path(0, 0, 4, 0, 4, 4, 0, 4)) {
 		t.Errorf("Rect: %v", rect)
 	}
 }
@@ -154,10 +155,10 @@ func TestNotPlaces(t *testing.T) {
 		}
 	}
 	for _, q := range whole() {
-		if n := ok[int](t)(poly.In(q, bent())); n != -1 {
+		if n := expect.OK[int](t)(poly.In(q, bent())); n != -1 {
 			t.Errorf("In of %v: %d", q, n)
 		}
-		if n := ok[int](t)(poly.Disc(bent(), q, api.MaxDist)); n != 0 {
+		if n := expect.OK[int](t)(poly.Disc(bent(), q, api.MaxDist)); n != 0 {
 			t.Errorf("Disc about %v: %d", q, n)
 		}
 	}
@@ -170,7 +171,7 @@ func TestIn(t *testing.T) {
 		for _, q := range places {
 			want := sideOf(exact(q), p)
 			count[want]++
-			if side := ok[int](t)(poly.In(q, p)); side != want {
+			if side := expect.OK[int](t)(poly.In(q, p)); side != want {
 				t.Errorf("In of %v and %v: %d", q, p, side)
 			}
 		}
@@ -183,7 +184,7 @@ func TestIn(t *testing.T) {
 // P3.1, C3: the area is the sum of trapezoids; of a small polygon, it follows from the places inside and on the border.
 func TestArea(t *testing.T) {
 	eachShape(func(p, places []api.Point) {
-		area := ok[int](t)(poly.Area(p))
+		area := expect.OK[int](t)(poly.Area(p))
 		if area != trapezoids(p) {
 			t.Errorf("Area of %v: %d", p, area)
 		}
@@ -203,7 +204,7 @@ func TestArea(t *testing.T) {
 			t.Errorf("Area of %v: %d, with %d places inside and %d on the border", p, area, inside, border)
 		}
 	})
-	if area := ok[int](t)(poly.Area(whole())); area != 8000000000000 {
+	if area := expect.OK[int](t)(poly.Area(whole())); area != 8000000000000 {
 		t.Errorf("Area: %d", area)
 	}
 }
@@ -213,10 +214,10 @@ func TestTouchAndHolds(t *testing.T) {
 	touch, apart, hold := 0, 0, 0
 	eachPair(func(p, q []api.Point) {
 		wantTouch, wantHolds := touchAny(p, q), holdsAll(p, q)
-		if is := ok[bool](t)(poly.Touch(p, q)); is != wantTouch {
+		if is := expect.OK[bool](t)(poly.Touch(p, q)); is != wantTouch {
 			t.Errorf("Touch of %v and %v: %v", p, q, is)
 		}
-		if is := ok[bool](t)(poly.Holds(p, q)); is != wantHolds {
+		if is := expect.OK[bool](t)(poly.Holds(p, q)); is != wantHolds {
 			t.Errorf("Holds of %v and %v: %v", p, q, is)
 		}
 		switch {
@@ -276,13 +277,13 @@ func TestNotches(t *testing.T) {
 		{comb, path(-9, 3, 0, 3, -9, 9), true, false},                            // up to an edge, along it if it went on
 		{comb, path(-9, -9, 20, -9, 20, 20, -9, 20), true, false},                // around all
 	} {
-		if is := ok[bool](t)(poly.Touch(x.p, x.q)); is != x.touch {
+		if is := expect.OK[bool](t)(poly.Touch(x.p, x.q)); is != x.touch {
 			t.Errorf("case %d: Touch: %v", i, is)
 		}
-		if is := ok[bool](t)(poly.Touch(x.q, x.p)); is != x.touch {
+		if is := expect.OK[bool](t)(poly.Touch(x.q, x.p)); is != x.touch {
 			t.Errorf("case %d: Touch, exchanged: %v", i, is)
 		}
-		if is := ok[bool](t)(poly.Holds(x.p, x.q)); is != x.holds {
+		if is := expect.OK[bool](t)(poly.Holds(x.p, x.q)); is != x.holds {
 			t.Errorf("case %d: Holds: %v", i, is)
 		}
 	}
@@ -303,7 +304,7 @@ func TestDisc(t *testing.T) {
 			for _, r := range radii(squareTo(q, p)) {
 				want := discOf(p, q, r)
 				count[want]++
-				if disc := ok[int](t)(poly.Disc(p, q, r)); disc != want {
+				if disc := expect.OK[int](t)(poly.Disc(p, q, r)); disc != want {
 					t.Errorf("Disc of %v about %v with %d: %d", p, q, r, disc)
 				}
 			}
@@ -313,7 +314,7 @@ func TestDisc(t *testing.T) {
 		t.Errorf("too few discs: %v", count)
 	}
 	for _, x := range []struct{ r, want int }{{0, 1}, {most, 1}, {most + 1, 0}, {api.MaxDist, 0}} {
-		if disc := ok[int](t)(poly.Disc(whole(), at(0, 0), x.r)); disc != x.want {
+		if disc := expect.OK[int](t)(poly.Disc(whole(), at(0, 0), x.r)); disc != x.want {
 			t.Errorf("Disc with %d: %d", x.r, disc)
 		}
 	}
@@ -376,7 +377,7 @@ func TestHullAtTheLimits(t *testing.T) {
 		checkHull(t, list)
 	}
 	inside := slices.Repeat(path(1, 1, 2, 2), 98)
-	if hull := ok[[]api.Point](t)(poly.Hull(append(inside, path(0, 0, 5, 0, 5, 5, 0, 5)...))); !slices.Equal(hull, path(0, 0, 5, 0, 5, 5, 0, 5)) {
+	if hull := expect.OK[[]api.Point](t)(poly.Hull(append(inside, path(0, 0, 5, 0, 5, 5, 0, 5)...))); !slices.Equal(hull, path(0, 0, 5, 0, 5, 5, 0, 5)) {
 		t.Errorf("Hull of 200 places: %v", hull)
 	}
 	refused := [][]api.Point{
@@ -407,7 +408,7 @@ func TestHullAtTheLimits(t *testing.T) {
 func TestRect(t *testing.T) {
 	for _, b := range []api.Box{box(0, 1, 0, 1), box(-most, most, -most, most), box(-3, 5, 7, 8), box(most-1, most, -most, 1-most)} {
 		want := path(b.X.Lo, b.Y.Lo, b.X.Hi, b.Y.Lo, b.X.Hi, b.Y.Hi, b.X.Lo, b.Y.Hi)
-		if rect := ok[[]api.Point](t)(poly.Rect(b)); !slices.Equal(rect, want) || !isPolygon(rect) {
+		if rect := expect.OK[[]api.Point](t)(poly.Rect(b)); !slices.Equal(rect, want) || !isPolygon(rect) {
 			t.Errorf("Rect of %v: %v", b, rect)
 		}
 	}

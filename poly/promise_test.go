@@ -5,6 +5,7 @@ import (
 	"testing"
 
 	"seamark/api"
+	"seamark/internal/expect"
 	"seamark/plane"
 	"seamark/poly"
 )
@@ -13,7 +14,7 @@ import (
 func TestAreaWithoutACorner(t *testing.T) {
 	outward, inward := 0, 0
 	for _, p := range slices.Concat(tiny(), smallShapes(), wideShapes()) {
-		area := ok[int](t)(poly.Area(p))
+		area := expect.OK[int](t)(poly.Area(p))
 		if area <= 0 {
 			t.Errorf("Area of %v: %d", p, area)
 		}
@@ -23,14 +24,14 @@ func TestAreaWithoutACorner(t *testing.T) {
 				continue
 			}
 			before, after := p[(i+len(p)-1)%len(p)], p[(i+1)%len(p)]
-			triangle := ok[int](t)(poly.Area(counter([]api.Point{before, corner, after})))
-			if ok[int](t)(plane.Turn(before, corner, after)) > 0 {
+			triangle := expect.OK[int](t)(poly.Area(counter([]api.Point{before, corner, after})))
+			if expect.OK[int](t)(plane.Turn(before, corner, after)) > 0 {
 				outward++
 			} else {
 				inward++
 				triangle = -triangle
 			}
-			if without := ok[int](t)(poly.Area(less)); without != area-triangle {
+			if without := expect.OK[int](t)(poly.Area(less)); without != area-triangle {
 				t.Errorf("Area of %v without %v: %d", p, corner, without)
 			}
 		}
@@ -55,8 +56,8 @@ func TestInside(t *testing.T) {
 	eachShape(func(p, places []api.Point) {
 		var inside, outside []api.Point
 		for _, q := range places {
-			side := ok[int](t)(poly.In(q, p))
-			if on := anyEdge(p, func(a, b api.Point) bool { return ok[bool](t)(plane.On(q, a, b)) }); on != (side == 0) {
+			side := expect.OK[int](t)(poly.In(q, p))
+			if on := anyEdge(p, func(a, b api.Point) bool { return expect.OK[bool](t)(plane.On(q, a, b)) }); on != (side == 0) {
 				t.Errorf("In of %v and %v: %d", q, p, side)
 			}
 			if side > 0 {
@@ -71,7 +72,7 @@ func TestInside(t *testing.T) {
 				if (i+k)%3 > 0 {
 					continue
 				}
-				if !anyEdge(p, func(c, d api.Point) bool { return ok[bool](t)(plane.Meet(a, b, c, d)) }) {
+				if !anyEdge(p, func(c, d api.Point) bool { return expect.OK[bool](t)(plane.Meet(a, b, c, d)) }) {
 					t.Errorf("the way from %v to %v meets no edge of %v", a, b, p)
 				}
 			}
@@ -82,7 +83,7 @@ func TestInside(t *testing.T) {
 // has reports whether q is a place of p.
 func has(t *testing.T, p []api.Point, q api.Point) bool {
 	t.Helper()
-	return ok[int](t)(poly.In(q, p)) >= 0
+	return expect.OK[int](t)(poly.In(q, p)) >= 0
 }
 
 // some returns places of small polygons and around them, and the corners and middles of edges of wide ones.
@@ -96,8 +97,8 @@ func some(p, q []api.Point) []api.Point {
 // P3.4: polygons that have a common place touch, in either order; those that do not touch have none.
 func TestTouch(t *testing.T) {
 	eachPair(func(p, q []api.Point) {
-		touch := ok[bool](t)(poly.Touch(p, q))
-		if ok[bool](t)(poly.Touch(q, p)) != touch {
+		touch := expect.OK[bool](t)(poly.Touch(p, q))
+		if expect.OK[bool](t)(poly.Touch(q, p)) != touch {
 			t.Errorf("Touch of %v and %v depends on the order", p, q)
 		}
 		if touch {
@@ -113,7 +114,7 @@ func TestTouch(t *testing.T) {
 
 // P3.5: what is in a polygon has no place that this has not, and what that has is in this too; what hold each other are equal.
 func TestHolds(t *testing.T) {
-	holds := func(p, q []api.Point) bool { return ok[bool](t)(poly.Holds(p, q)) }
+	holds := func(p, q []api.Point) bool { return expect.OK[bool](t)(poly.Holds(p, q)) }
 	third := slices.Concat(tiny()[:40], smallShapes()[:20], wideShapes())
 	chains := 0
 	eachPair(func(p, q []api.Point) {
@@ -150,16 +151,16 @@ func TestDiscs(t *testing.T) {
 	for _, p := range slices.Concat(tiny(), smallShapes()) {
 		for i, q := range square(-1, 7) {
 			for r := range 4 {
-				disc := ok[int](t)(poly.Disc(p, q, r))
+				disc := expect.OK[int](t)(poly.Disc(p, q, r))
 				if (i+r)%3 > 0 || disc == 0 {
 					continue
 				}
 				for _, z := range square(-1, 7) {
-					if in := ok[bool](t)(plane.Near(z, q, q, r)); in && has(t, p, z) != (disc > 0) {
+					if in := expect.OK[bool](t)(plane.Near(z, q, q, r)); in && has(t, p, z) != (disc > 0) {
 						t.Errorf("Disc of %v about %v with %d: %d, and it has %v", p, q, r, disc, z)
 					}
 					for s := range r + 1 {
-						if lies := ok[bool](t)(plane.Lies(z, s, q, r)); lies && ok[int](t)(poly.Disc(p, z, s)) != disc {
+						if lies := expect.OK[bool](t)(plane.Lies(z, s, q, r)); lies && expect.OK[int](t)(poly.Disc(p, z, s)) != disc {
 							t.Errorf("Disc of %v about %v with %d: %d, but not about %v with %d", p, q, r, disc, z, s)
 						}
 					}
@@ -170,7 +171,7 @@ func TestDiscs(t *testing.T) {
 	for _, p := range wideShapes() {
 		for _, q := range slices.Concat(p, path(0, 0, most, 0, -most/2, most/2)) {
 			for r := most; r > 0; r /= 7 {
-				disc, lesser := ok[int](t)(poly.Disc(p, q, r)), ok[int](t)(poly.Disc(p, q, r/7))
+				disc, lesser := expect.OK[int](t)(poly.Disc(p, q, r)), expect.OK[int](t)(poly.Disc(p, q, r/7))
 				if disc != 0 && disc != lesser {
 					t.Errorf("Disc of %v about %v with %d: %d, with %d: %d", p, q, r, disc, r/7, lesser)
 				}
@@ -183,7 +184,7 @@ func TestDiscs(t *testing.T) {
 func isConvex(t *testing.T, p []api.Point) bool {
 	t.Helper()
 	for i, a := range p {
-		if ok[int](t)(plane.Turn(a, p[(i+1)%len(p)], p[(i+2)%len(p)])) <= 0 {
+		if expect.OK[int](t)(plane.Turn(a, p[(i+1)%len(p)], p[(i+2)%len(p)])) <= 0 {
 			return false
 		}
 	}
@@ -198,7 +199,7 @@ func TestHulls(t *testing.T) {
 	}
 	held := 0
 	for _, list := range slices.Concat(tiny(), smallShapes(), wideShapes()) {
-		hull := ok[[]api.Point](t)(poly.Hull(list))
+		hull := expect.OK[[]api.Point](t)(poly.Hull(list))
 		if !poly.Valid(hull) || !isConvex(t, hull) {
 			t.Errorf("Hull of %v: %v", list, hull)
 			continue
@@ -208,13 +209,13 @@ func TestHulls(t *testing.T) {
 				t.Errorf("%v is a corner of the hull of %v", corner, list)
 			}
 		}
-		if !hasAll(hull, list) || !ok[bool](t)(poly.Holds(hull, list)) {
+		if !hasAll(hull, list) || !expect.OK[bool](t)(poly.Holds(hull, list)) {
 			t.Errorf("Hull of %v has not all of it: %v", list, hull)
 		}
 		for _, p := range convex {
 			if hasAll(p, list) {
 				held++
-				if !ok[bool](t)(poly.Holds(p, hull)) {
+				if !expect.OK[bool](t)(poly.Holds(p, hull)) {
 					t.Errorf("%v has all of %v, and does not hold the hull", p, list)
 				}
 			}
@@ -232,15 +233,15 @@ func TestBoxes(t *testing.T) {
 		for _, corner := range p {
 			x, y = append(x, corner.X), append(y, corner.Y)
 		}
-		b := ok[api.Box](t)(poly.Box(p))
+		b := expect.OK[api.Box](t)(poly.Box(p))
 		if b != box(slices.Min(x), slices.Max(x), slices.Min(y), slices.Max(y)) {
 			t.Errorf("Box of %v: %v", p, b)
 		}
-		rect := ok[[]api.Point](t)(poly.Rect(b))
-		if !ok[bool](t)(poly.Holds(rect, p)) {
+		rect := expect.OK[[]api.Point](t)(poly.Rect(b))
+		if !expect.OK[bool](t)(poly.Holds(rect, p)) {
 			t.Errorf("Rect of the box of %v does not hold it: %v", p, rect)
 		}
-		if again := ok[api.Box](t)(poly.Box(rect)); again != b {
+		if again := expect.OK[api.Box](t)(poly.Box(rect)); again != b {
 			t.Errorf("Box of Rect of %v: %v", b, again)
 		}
 	}

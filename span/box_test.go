@@ -5,6 +5,7 @@ import (
 	"testing"
 
 	"seamark/api"
+	"seamark/internal/expect"
 	"seamark/span"
 )
 
@@ -24,13 +25,13 @@ func TestValidBox(t *testing.T) {
 
 // P2.1: what is not valid is refused in every position, ahead of ErrRange and ErrNone.
 func TestErrArgOfBoxes(t *testing.T) {
-	refused := fails[api.Box](api.ErrArg)
+	refused := expect.Fails[api.Box](api.ErrArg)
 	for _, bad := range notBoxes() {
 		for _, good := range []api.Box{box(0, 0, 0, 0), box(-coord, coord, -coord, coord), box(coord, coord, coord, coord), bad} {
-			if result(span.MeetBox(bad, good)) != refused || result(span.MeetBox(good, bad)) != refused {
+			if expect.Result(span.MeetBox(bad, good)) != refused || expect.Result(span.MeetBox(good, bad)) != refused {
 				t.Errorf("MeetBox takes %v with %v", bad, good)
 			}
-			if result(span.JoinBox(bad, good)) != refused || result(span.JoinBox(good, bad)) != refused {
+			if expect.Result(span.JoinBox(bad, good)) != refused || expect.Result(span.JoinBox(good, bad)) != refused {
 				t.Errorf("JoinBox takes %v with %v", bad, good)
 			}
 			if in, e := span.WithinBox(bad, good); in || e != api.ErrArg {
@@ -41,7 +42,7 @@ func TestErrArgOfBoxes(t *testing.T) {
 			}
 		}
 		for _, n := range []int{0, 1, coord, api.MaxDist} {
-			if got := result(span.GrowBox(bad, n)); got != refused {
+			if got := expect.Result(span.GrowBox(bad, n)); got != refused {
 				t.Errorf("GrowBox of %v by %d: %v", bad, n, got)
 			}
 		}
@@ -68,7 +69,7 @@ func TestErrArgOfPlacesAndGrowths(t *testing.T) {
 	}
 	for _, n := range []int{-1, api.MaxDist + 1, math.MinInt, math.MaxInt} {
 		for _, b := range []api.Box{box(0, 0, 0, 0), whole} {
-			if got := result(span.GrowBox(b, n)); got != fails[api.Box](api.ErrArg) {
+			if got := expect.Result(span.GrowBox(b, n)); got != expect.Fails[api.Box](api.ErrArg) {
 				t.Errorf("GrowBox of %v by %d: %v", b, n, got)
 			}
 		}
@@ -80,21 +81,21 @@ func TestGrowBoxAtTheLimits(t *testing.T) {
 	for i, x := range []struct {
 		b    api.Box
 		n    int
-		want pair[api.Box]
+		want expect.Pair[api.Box]
 	}{
-		{box(0, 0, 0, 0), coord, result(box(-coord, coord, -coord, coord), api.OK)},
-		{box(0, 0, 0, 0), coord + 1, fails[api.Box](api.ErrRange)},
-		{box(0, 0, 0, 0), api.MaxDist, fails[api.Box](api.ErrRange)},
-		{box(1, 2, 3, 4), 0, result(box(1, 2, 3, 4), api.OK)},
-		{box(1, 2, 3, 4), 10, result(box(-9, 12, -7, 14), api.OK)},
-		{box(1, 2, 3, 4), coord - 4, result(box(5-coord, coord-2, 7-coord, coord), api.OK)},
-		{box(-coord, 0, 0, 0), 1, fails[api.Box](api.ErrRange)},
-		{box(0, coord, 0, 0), 1, fails[api.Box](api.ErrRange)},
-		{box(0, 0, -coord, 0), 1, fails[api.Box](api.ErrRange)},
-		{box(0, 0, 0, coord), 1, fails[api.Box](api.ErrRange)},
-		{box(1-coord, 0, 0, coord-1), 1, result(box(-coord, 1, -1, coord), api.OK)},
+		{box(0, 0, 0, 0), coord, expect.Result(box(-coord, coord, -coord, coord), api.OK)},
+		{box(0, 0, 0, 0), coord + 1, expect.Fails[api.Box](api.ErrRange)},
+		{box(0, 0, 0, 0), api.MaxDist, expect.Fails[api.Box](api.ErrRange)},
+		{box(1, 2, 3, 4), 0, expect.Result(box(1, 2, 3, 4), api.OK)},
+		{box(1, 2, 3, 4), 10, expect.Result(box(-9, 12, -7, 14), api.OK)},
+		{box(1, 2, 3, 4), coord - 4, expect.Result(box(5-coord, coord-2, 7-coord, coord), api.OK)},
+		{box(-coord, 0, 0, 0), 1, expect.Fails[api.Box](api.ErrRange)},
+		{box(0, coord, 0, 0), 1, expect.Fails[api.Box](api.ErrRange)},
+		{box(0, 0, -coord, 0), 1, expect.Fails[api.Box](api.ErrRange)},
+		{box(0, 0, 0, coord), 1, expect.Fails[api.Box](api.ErrRange)},
+		{box(1-coord, 0, 0, coord-1), 1, expect.Result(box(-coord, 1, -1, coord), api.OK)},
 	} {
-		if got := result(span.GrowBox(x.b, x.n)); got != x.want {
+		if got := expect.Result(span.GrowBox(x.b, x.n)); got != x.want {
 			t.Errorf("limit %d: %v", i, got)
 		}
 	}
@@ -105,19 +106,19 @@ func TestBoxesBySpans(t *testing.T) {
 	eachPairOfBoxes(func(a, b api.Box) {
 		x, noX := span.Meet(a.X, b.X)
 		y, noY := span.Meet(a.Y, b.Y)
-		want := result(api.Box{X: x, Y: y}, api.OK)
+		want := expect.Result(api.Box{X: x, Y: y}, api.OK)
 		if noX != api.OK || noY != api.OK {
-			want = fails[api.Box](api.ErrNone)
+			want = expect.Fails[api.Box](api.ErrNone)
 		}
-		if got := result(span.MeetBox(a, b)); got != want {
+		if got := expect.Result(span.MeetBox(a, b)); got != want {
 			t.Errorf("MeetBox of %v and %v: %v", a, b, got)
 		}
-		joined := api.Box{X: ok[api.Span](t)(span.Join(a.X, b.X)), Y: ok[api.Span](t)(span.Join(a.Y, b.Y))}
-		if got := result(span.JoinBox(a, b)); got != result(joined, api.OK) {
+		joined := api.Box{X: expect.OK[api.Span](t)(span.Join(a.X, b.X)), Y: expect.OK[api.Span](t)(span.Join(a.Y, b.Y))}
+		if got := expect.Result(span.JoinBox(a, b)); got != expect.Result(joined, api.OK) {
 			t.Errorf("JoinBox of %v and %v: %v", a, b, got)
 		}
-		all := ok[bool](t)(span.Within(a.X, b.X)) && ok[bool](t)(span.Within(a.Y, b.Y))
-		if got := ok[bool](t)(span.WithinBox(a, b)); got != all {
+		all := expect.OK[bool](t)(span.Within(a.X, b.X)) && expect.OK[bool](t)(span.Within(a.Y, b.Y))
+		if got := expect.OK[bool](t)(span.WithinBox(a, b)); got != all {
 			t.Errorf("WithinBox of %v and %v: %v", a, b, got)
 		}
 	})

@@ -2,7 +2,6 @@ package span_test
 
 import (
 	"math"
-	"testing"
 
 	"seamark/api"
 )
@@ -18,27 +17,6 @@ func of(lo, hi int) api.Span { return api.Span{Lo: lo, Hi: hi} }
 func box(a, b, c, d int) api.Box { return api.Box{X: of(a, b), Y: of(c, d)} }
 
 func at(x, y int) api.Point { return api.Point{X: x, Y: y} }
-
-// ok returns what a call returns, and fails the test if it is not OK.
-func ok[T any](t *testing.T) func(T, api.Errno) T {
-	return func(v T, e api.Errno) T {
-		t.Helper()
-		if e != api.OK {
-			t.Fatalf("%v is not OK", e)
-		}
-		return v
-	}
-}
-
-// pair holds what a call returns.
-type pair[T comparable] struct {
-	value T
-	e     api.Errno
-}
-
-func result[T comparable](v T, e api.Errno) pair[T] { return pair[T]{v, e} }
-
-func fails[T comparable](e api.Errno) pair[T] { return pair[T]{e: e} }
 
 // spansOf returns all spans whose ends are among these numbers, which ascend.
 func spansOf(ends ...int) []api.Span {

@@ -4,6 +4,7 @@ import (
 	"testing"
 
 	"seamark/api"
+	"seamark/internal/expect"
 	"seamark/span"
 )
 
@@ -28,7 +29,7 @@ func TestSums(t *testing.T) {
 		}
 		if first, e := span.Sub(sum, s); e == api.OK {
 			back++
-			if !ok[bool](t)(span.Within(r, first)) {
+			if !expect.OK[bool](t)(span.Within(r, first)) {
 				t.Errorf("%v, more by %v and less by it, is %v", r, s, first)
 			}
 		}
@@ -64,7 +65,7 @@ func TestScaled(t *testing.T) {
 func TestInCommon(t *testing.T) {
 	eachPair(func(r, s api.Span) {
 		both, e := span.Meet(r, s)
-		if result(both, e) != result(span.Meet(s, r)) {
+		if expect.Result(both, e) != expect.Result(span.Meet(s, r)) {
 			t.Errorf("Meet of %v and %v depends on the order", r, s)
 		}
 		if e != api.OK && e != api.ErrNone {
@@ -83,9 +84,9 @@ func TestInCommon(t *testing.T) {
 
 // P2.5: Join has all of both, and is the least such span.
 func TestJoined(t *testing.T) {
-	within := func(s, u api.Span) bool { return ok[bool](t)(span.Within(s, u)) }
+	within := func(s, u api.Span) bool { return expect.OK[bool](t)(span.Within(s, u)) }
 	eachPair(func(r, s api.Span) {
-		joined := ok[api.Span](t)(span.Join(r, s))
+		joined := expect.OK[api.Span](t)(span.Join(r, s))
 		if !within(r, joined) || !within(s, joined) {
 			t.Errorf("Join of %v and %v has not all of both: %v", r, s, joined)
 		}
@@ -99,7 +100,7 @@ func TestJoined(t *testing.T) {
 
 // P2.6: spans are in order by what they have all of.
 func TestOrder(t *testing.T) {
-	within := func(s, u api.Span) bool { return ok[bool](t)(span.Within(s, u)) }
+	within := func(s, u api.Span) bool { return expect.OK[bool](t)(span.Within(s, u)) }
 	all := append(smallSpans(), wideSpans()...)
 	eachPair(func(r, s api.Span) {
 		if within(r, s) && within(s, r) != (r == s) {
@@ -128,12 +129,12 @@ func TestOrder(t *testing.T) {
 
 // P2.7: a place is in Meet of boxes exactly if it is in both, in Join if it is in one; and a box has the places of those it has all of.
 func TestBoxes(t *testing.T) {
-	in := func(p api.Point, b api.Box) bool { return ok[bool](t)(span.InBox(p, b)) }
+	in := func(p api.Point, b api.Box) bool { return expect.OK[bool](t)(span.InBox(p, b)) }
 	for _, a := range smallBoxes() {
 		for _, b := range smallBoxes() {
 			both, e := span.MeetBox(a, b)
-			joined := ok[api.Box](t)(span.JoinBox(a, b))
-			all := ok[bool](t)(span.WithinBox(a, b))
+			joined := expect.OK[api.Box](t)(span.JoinBox(a, b))
+			all := expect.OK[bool](t)(span.WithinBox(a, b))
 			missing := false
 			for _, p := range places() {
 				if in(p, a) != hasPlace(a, p) {
@@ -156,14 +157,14 @@ func TestBoxes(t *testing.T) {
 
 // P2.8: a place is in a grown box exactly if it is near some place of the box; growths add up.
 func TestGrown(t *testing.T) {
-	grow := func(b api.Box, n int) api.Box { return ok[api.Box](t)(span.GrowBox(b, n)) }
+	grow := func(b api.Box, n int) api.Box { return expect.OK[api.Box](t)(span.GrowBox(b, n)) }
 	for _, b := range smallBoxes() {
 		for n := range 3 {
 			grown := grow(b, n)
 			for x := -5; x <= 6; x++ {
 				for y := -5; y <= 6; y++ {
 					p := at(x, y)
-					if ok[bool](t)(span.InBox(p, grown)) != nearSome(p, b, n) {
+					if expect.OK[bool](t)(span.InBox(p, grown)) != nearSome(p, b, n) {
 						t.Errorf("%v is in %v grown by %d, or near it, and not both", p, b, n)
 					}
 				}

@@ -6,6 +6,7 @@ import (
 	"testing"
 
 	"seamark/api"
+	"seamark/internal/expect"
 	"seamark/span"
 )
 
@@ -14,13 +15,13 @@ var twoSpans = []func(s, t api.Span) (api.Span, api.Errno){span.Add, span.Sub, s
 
 // P2.1: the examples of the chapter.
 func TestExamples(t *testing.T) {
-	for i, x := range []struct{ got, want pair[api.Span] }{
-		{result(span.Sub(of(1, 3), of(2, 5))), result(of(-4, 1), api.OK)},
-		{result(span.Scale(of(-3, 5), 1, 2)), result(of(-2, 3), api.OK)},
-		{result(span.Scale(of(-3, 5), -1, 2)), result(of(-3, 2), api.OK)},
-		{result(span.Meet(of(1, 3), of(3, 9))), result(of(3, 3), api.OK)},
-		{result(span.Meet(of(1, 3), of(4, 9))), fails[api.Span](api.ErrNone)},
-		{result(span.Join(of(1, 3), of(7, 9))), result(of(1, 9), api.OK)},
+	for i, x := range []struct{ got, want expect.Pair[api.Span] }{
+		{expect.Result(span.Sub(of(1, 3), of(2, 5))), expect.Result(of(-4, 1), api.OK)},
+		{expect.Result(span.Scale(of(-3, 5), 1, 2)), expect.Result(of(-2, 3), api.OK)},
+		{expect.Result(span.Scale(of(-3, 5), -1, 2)), expect.Result(of(-3, 2), api.OK)},
+		{expect.Result(span.Meet(of(1, 3), of(3, 9))), expect.Result(of(3, 3), api.OK)},
+		{expect.Result(span.Meet(of(1, 3), of(4, 9))), expect.Fails[api.Span](api.ErrNone)},
+		{expect.Result(span.Join(of(1, 3), of(7, 9))), expect.Result(of(1, 9), api.OK)},
 	} {
 		if x.got != x.want {
 			t.Errorf("example %d: %v", i, x.got)
@@ -47,11 +48,11 @@ func TestValid(t *testing.T) {
 
 // P2.1: what is not valid is refused in every position, ahead of ErrRange and ErrNone.
 func TestErrArg(t *testing.T) {
-	refused := fails[api.Span](api.ErrArg)
+	refused := expect.Fails[api.Span](api.ErrArg)
 	for _, bad := range notSpans(most) {
 		for _, good := range []api.Span{of(0, 0), of(-most, most), of(most, most), bad} {
 			for i, do := range twoSpans {
-				if result(do(bad, good)) != refused || result(do(good, bad)) != refused {
+				if expect.Result(do(bad, good)) != refused || expect.Result(do(good, bad)) != refused {
 					t.Errorf("function %d takes %v with %v", i, bad, good)
 				}
 			}
@@ -62,7 +63,7 @@ func TestErrArg(t *testing.T) {
 				t.Errorf("Within of %v and %v: %v, %v", good, bad, in, e)
 			}
 		}
-		if got := result(span.Scale(bad, 1, 1)); got != refused {
+		if got := expect.Result(span.Scale(bad, 1, 1)); got != refused {
 			t.Errorf("Scale of %v: %v", bad, got)
 		}
 	}
@@ -71,7 +72,7 @@ func TestErrArg(t *testing.T) {
 			{1, 0}, {1, -1}, {1, factor + 1}, {factor + 1, 1}, {-factor - 1, 1}, {factor + 1, factor + 1}, {0, 0}, {0, -factor},
 			{math.MaxInt, 1}, {math.MinInt, 1}, {1, math.MaxInt}, {1, math.MinInt},
 		} {
-			if got := result(span.Scale(s, f[0], f[1])); got != refused {
+			if got := expect.Result(span.Scale(s, f[0], f[1])); got != refused {
 				t.Errorf("Scale of %v by %v: %v", s, f, got)
 			}
 		}
@@ -79,11 +80,11 @@ func TestErrArg(t *testing.T) {
 }
 
 // checked returns a span, or ErrRange for one that is beyond the limits.
-func checked(s api.Span) pair[api.Span] {
+func checked(s api.Span) expect.Pair[api.Span] {
 	if s.Lo < -most || s.Hi > most {
-		return fails[api.Span](api.ErrRange)
+		return expect.Fails[api.Span](api.ErrRange)
 	}
-	return result(s, api.OK)
+	return expect.Result(s, api.OK)
 }
 
 // P2.1, B2: the ends are the least and the greatest sum, and difference, of two ends.
@@ -97,10 +98,10 @@ func TestSumsAndDifferences(t *testing.T) {
 				diff = of(min(diff.Lo, m-n), max(diff.Hi, m-n))
 			}
 		}
-		if got := result(span.Add(r, s)); got != checked(sum) {
+		if got := expect.Result(span.Add(r, s)); got != checked(sum) {
 			t.Errorf("Add of %v and %v: %v", r, s, got)
 		}
-		if got := result(span.Sub(r, s)); got != checked(diff) {
+		if got := expect.Result(span.Sub(r, s)); got != checked(diff) {
 			t.Errorf("Sub of %v and %v: %v", r, s, got)
 		}
 	})
@@ -113,7 +114,7 @@ func quotient(n, num, den int) int {
 }
 
 // scaled returns what Scale has to return.
-func scaled(s api.Span, num, den int) pair[api.Span] {
+func scaled(s api.Span, num, den int) expect.Pair[api.Span] {
 	low := min(quotient(s.Lo, num, den), quotient(s.Hi, num, den))
 	high := max(-quotient(s.Lo, -num, den), -quotient(s.Hi, -num, den))
 	return checked(of(low, high))
@@ -136,10 +137,10 @@ func TestScale(t *testing.T) {
 	for _, s := range append(smallSpans(), wideSpans()...) {
 		for _, f := range fractions() {
 			want := scaled(s, f[0], f[1])
-			if got := result(span.Scale(s, f[0], f[1])); got != want {
+			if got := expect.Result(span.Scale(s, f[0], f[1])); got != want {
 				t.Errorf("Scale of %v by %v: %v, and not %v", s, f, got, want)
 			}
-			if want.e == api.OK {
+			if want.Errno == api.OK {
 				good++
 			} else {
 				far++
@@ -156,21 +157,21 @@ func TestScaleAtTheLimits(t *testing.T) {
 	for i, x := range []struct {
 		s        api.Span
 		num, den int
-		want     pair[api.Span]
+		want     expect.Pair[api.Span]
 	}{
-		{of(-most, most), factor, factor, result(of(-most, most), api.OK)},
-		{of(-most, most), -factor, factor, result(of(-most, most), api.OK)},
-		{of(-most, most), factor, factor - 1, fails[api.Span](api.ErrRange)},
-		{of(0, 1000001), factor, 1, fails[api.Span](api.ErrRange)},
-		{of(0, 1000000), factor, 1, result(of(0, most), api.OK)},
-		{of(-1000001, 0), factor, 1, fails[api.Span](api.ErrRange)},
-		{of(-1000000, 0), -factor, 1, result(of(0, most), api.OK)},
+		{of(-most, most), factor, factor, expect.Result(of(-most, most), api.OK)},
+		{of(-most, most), -factor, factor, expect.Result(of(-most, most), api.OK)},
+		{of(-most, most), factor, factor - 1, expect.Fails[api.Span](api.ErrRange)},
+		{of(0, 1000001), factor, 1, expect.Fails[api.Span](api.ErrRange)},
+		{of(0, 1000000), factor, 1, expect.Result(of(0, most), api.OK)},
+		{of(-1000001, 0), factor, 1, expect.Fails[api.Span](api.ErrRange)},
+		{of(-1000000, 0), -factor, 1, expect.Result(of(0, most), api.OK)},
 		// most + 1/2 is rounded up beyond the limit, and -most - 1/2 down
-		{of(0, 666666666667), 3, 2, fails[api.Span](api.ErrRange)},
-		{of(-666666666667, 0), 3, 2, fails[api.Span](api.ErrRange)},
-		{of(-666666666666, 666666666666), 3, 2, result(of(1-most, most-1), api.OK)},
+		{of(0, 666666666667), 3, 2, expect.Fails[api.Span](api.ErrRange)},
+		{of(-666666666667, 0), 3, 2, expect.Fails[api.Span](api.ErrRange)},
+		{of(-666666666666, 666666666666), 3, 2, expect.Result(of(1-most, most-1), api.OK)},
 	} {
-		if got := result(span.Scale(x.s, x.num, x.den)); got != x.want {
+		if got := expect.Result(span.Scale(x.s, x.num, x.den)); got != x.want {
 			t.Errorf("limit %d: %v", i, got)
 		}
 	}
@@ -188,14 +189,14 @@ func TestSmallSpans(t *testing.T) {
 				}
 				all = all && (has(s, n) || !has(r, n))
 			}
-			want := fails[api.Span](api.ErrNone)
+			want := expect.Fails[api.Span](api.ErrNone)
 			if len(both) > 0 {
-				want = result(of(both[0], both[len(both)-1]), api.OK)
+				want = expect.Result(of(both[0], both[len(both)-1]), api.OK)
 			}
-			if got := result(span.Meet(r, s)); got != want {
+			if got := expect.Result(span.Meet(r, s)); got != want {
 				t.Errorf("Meet of %v and %v: %v", r, s, got)
 			}
-			if got := ok[bool](t)(span.Within(r, s)); got != all {
+			if got := expect.OK[bool](t)(span.Within(r, s)); got != all {
 				t.Errorf("Within of %v and %v: %v", r, s, got)
 			}
 		}
