@@ -6,6 +6,7 @@ import (
 	"seamark/api"
 	"seamark/datum"
 	"seamark/internal/expect"
+	"seamark/internal/sample"
 )
 
 // P4.1: the examples of the chapter.
@@ -51,7 +52,7 @@ func TestValid(t *testing.T) {
 	r := chance()
 	count := 0
 	for range 20000 {
-		m := api.Datum{A: upTo(r, 1000000), B: upTo(r, 1000000), D: upTo(r, 1000000), E: upTo(r, 1000000)}
+		m := api.Datum{A: sample.UpTo(r, 1000000), B: sample.UpTo(r, 1000000), D: sample.UpTo(r, 1000000), E: sample.UpTo(r, 1000000)}
 		if datum.Valid(m) != isDatum(m) {
 			t.Errorf("%v is valid: %v", m, !isDatum(m))
 		}
@@ -295,7 +296,7 @@ func TestBackToTheLimits(t *testing.T) {
 func TestThen(t *testing.T) {
 	good, far := 0, 0
 	for _, m := range datums() {
-		for _, n := range sample(datums(), 2) {
+		for _, n := range sample.Every(datums(), 2) {
 			want := joined(m, n)
 			if got := expect.Result(datum.Then(m, n)); got != want {
 				t.Errorf("Then of %v and %v: %v, and not %v", m, n, got, want)

@@ -8,6 +8,7 @@ import (
 	"seamark/api"
 	"seamark/datum"
 	"seamark/internal/expect"
+	"seamark/internal/sample"
 )
 
 const (
@@ -39,14 +40,6 @@ func stretch(a, e int) api.Datum { return api.Datum{A: a, E: e} }
 // chance returns numbers that are the same in each run.
 func chance() *rand.Rand { return rand.New(rand.NewPCG(4, 8)) }
 
-// upTo returns a number from -n to n: often at the limits, near them, or 0.
-func upTo(r *rand.Rand, n int) int {
-	if r.IntN(2) == 0 {
-		return r.IntN(2*n+1) - n
-	}
-	return []int{-n, 1 - n, -n / 2, -1, 0, 1, n / 2, n - 1, n}[r.IntN(9)]
-}
-
 // plain returns datums with simple factors, which make halves.
 func plain() []api.Datum {
 	var out []api.Datum
@@ -72,8 +65,8 @@ func odd(count int) []api.Datum {
 	var out []api.Datum
 	for range count {
 		out = append(out, api.Datum{
-			A: million + upTo(r, 400), B: upTo(r, 400), C: upTo(r, 300),
-			D: upTo(r, 400), E: million + upTo(r, 400), F: upTo(r, 300), Residue: r.IntN(12),
+			A: million + sample.UpTo(r, 400), B: sample.UpTo(r, 400), C: sample.UpTo(r, 300),
+			D: sample.UpTo(r, 400), E: million + sample.UpTo(r, 400), F: sample.UpTo(r, 300), Residue: r.IntN(12),
 		})
 	}
 	return out
@@ -85,8 +78,8 @@ func wild(count int) []api.Datum {
 	var out []api.Datum
 	for len(out) < count {
 		m := api.Datum{
-			A: upTo(r, api.MaxPart), B: upTo(r, api.MaxPart), C: upTo(r, api.MaxMove),
-			D: upTo(r, api.MaxPart), E: upTo(r, api.MaxPart), F: upTo(r, api.MaxMove), Residue: r.IntN(api.MaxResidue + 1),
+			A: sample.UpTo(r, api.MaxPart), B: sample.UpTo(r, api.MaxPart), C: sample.UpTo(r, api.MaxMove),
+			D: sample.UpTo(r, api.MaxPart), E: sample.UpTo(r, api.MaxPart), F: sample.UpTo(r, api.MaxMove), Residue: r.IntN(api.MaxResidue + 1),
 		}
 		if len(out)%2 == 0 {
 			m.C, m.F, m.Residue = m.C/500, m.F/500, m.Residue/200
@@ -129,7 +122,7 @@ func places() []api.Point {
 	}
 	r := chance()
 	for range 14 {
-		out = append(out, at(upTo(r, most), upTo(r, most)), at(upTo(r, 5000), upTo(r, 5000)))
+		out = append(out, at(sample.UpTo(r, most), sample.UpTo(r, most)), at(sample.UpTo(r, 5000), sample.UpTo(r, 5000)))
 	}
 	return out
 }
@@ -140,7 +133,7 @@ func boxes() []api.Box {
 	r := chance()
 	for _, n := range []int{3, 100, 100000, most} {
 		for range 12 {
-			a, b, c, d := upTo(r, n), upTo(r, n), upTo(r, n), upTo(r, n)
+			a, b, c, d := sample.UpTo(r, n), sample.UpTo(r, n), sample.UpTo(r, n), sample.UpTo(r, n)
 			out = append(out, box(min(a, b), max(a, b), min(c, d), max(c, d)), box(a, a, min(c, d), max(c, d)), box(a, a, c, c))
 		}
 	}
@@ -154,15 +147,6 @@ func each[T any](list []T, f func(m api.Datum, x T)) {
 			f(m, x)
 		}
 	}
-}
-
-// sample returns every n-th element.
-func sample[T any](list []T, n int) []T {
-	var out []T
-	for i := 0; i < len(list); i += n {
-		out = append(out, list[i])
-	}
-	return out
 }
 
 // some returns the numbers at the ends of s, next to them, and in its middle.
@@ -196,25 +180,20 @@ func fitting(t *testing.T, m api.Datum, p api.Point) []api.Point {
 	return out
 }
 
-// notNumbers returns numbers that are beyond the limit.
-func notNumbers(limit int) []int {
-	return []int{limit + 1, -limit - 1, limit + 1<<32, -1 << 32, 1 << 32, 1 << 62, math.MinInt, math.MaxInt}
-}
-
 // notDatums returns datums that are not valid.
 func notDatums() []api.Datum {
 	out := []api.Datum{
 		{}, stretch(500000, 499999), stretch(-million, million), stretch(1<<32, 1<<32), stretch(1<<31, 1<<31), {B: million, D: million},
 		{A: 500001, B: 1, D: 500001, E: 500000}, {A: million, E: million, Residue: -1}, {A: million, E: million, Residue: math.MinInt},
 	}
-	for _, n := range notNumbers(api.MaxPart) {
+	for _, n := range sample.Beyond(api.MaxPart) {
 		out = append(out, stretch(n, million), stretch(million, n), stretch(n, n))
 		out = append(out, api.Datum{A: million, B: n, E: million}, api.Datum{A: million, D: n, E: million}, api.Datum{B: n, D: -n})
 	}
-	for _, n := range notNumbers(api.MaxMove) {
+	for _, n := range sample.Beyond(api.MaxMove) {
 		out = append(out, api.Datum{A: million, E: million, C: n}, api.Datum{A: million, E: million, F: n})
 	}
-	for _, n := range notNumbers(api.MaxResidue) {
+	for _, n := range sample.Beyond(api.MaxResidue) {
 		out = append(out, api.Datum{A: million, E: million, Residue: n})
 	}
 	return out
@@ -223,7 +202,7 @@ func notDatums() []api.Datum {
 // notPlaces returns places that are not valid.
 func notPlaces() []api.Point {
 	var out []api.Point
-	for _, n := range notNumbers(most) {
+	for _, n := range sample.Beyond(most) {
 		out = append(out, at(n, 0), at(0, n), at(n, n))
 	}
 	return out
@@ -232,7 +211,7 @@ func notPlaces() []api.Point {
 // notBoxes returns boxes that are not valid.
 func notBoxes() []api.Box {
 	out := []api.Box{box(1, 0, 0, 0), box(0, 0, 1, 0), box(most, -most, 0, 0), box(0, 0, math.MaxInt, math.MinInt)}
-	for _, n := range notNumbers(most) {
+	for _, n := range sample.Beyond(most) {
 		out = append(out, box(min(n, 0), max(n, 0), 0, 0), box(0, 0, min(n, 0), max(n, 0)), only(at(n, n)))
 	}
 	return out

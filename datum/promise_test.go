@@ -6,6 +6,7 @@ import (
 	"seamark/api"
 	"seamark/datum"
 	"seamark/internal/expect"
+	"seamark/internal/sample"
 	"seamark/span"
 )
 
@@ -46,9 +47,9 @@ func TestNothingIsLost(t *testing.T) {
 // P4.2: the same holds for all places of a box.
 func TestNothingIsLostOfBoxes(t *testing.T) {
 	carried, led := 0, 0
-	each(sample(boxes(), 5), func(m api.Datum, b api.Box) {
+	each(sample.Every(boxes(), 5), func(m api.Datum, b api.Box) {
 		c, e := datum.Carry(m, b)
-		for _, p := range sample(inPlaces(b, around(b)), 5) {
+		for _, p := range sample.Every(inPlaces(b, around(b)), 5) {
 			for _, q := range fitting(t, m, p) {
 				carried++
 				if e == api.OK && !hasPlace(c, q) {
@@ -60,7 +61,7 @@ func TestNothingIsLostOfBoxes(t *testing.T) {
 			return
 		}
 		back, e := datum.Back(m, b)
-		for _, p := range sample(places(), 7) {
+		for _, p := range sample.Every(places(), 7) {
 			for _, q := range inPlaces(b, fitting(t, m, p)) {
 				led++
 				if e != api.OK || !hasPlace(back, p) {
@@ -87,9 +88,9 @@ func TestApplyIsCarry(t *testing.T) {
 // P4.3: the boxes of a box that lies within another one lie within those of the other one.
 func TestBoxesWithin(t *testing.T) {
 	carried, led := 0, 0
-	for _, m := range sample(datums(), 2) {
+	for _, m := range sample.Every(datums(), 2) {
 		for _, inner := range boxes() {
-			for _, b := range sample(boxes(), 4) {
+			for _, b := range sample.Every(boxes(), 4) {
 				outer := expect.OK[api.Box](t)(span.JoinBox(inner, b))
 				small, e := datum.Carry(m, inner)
 				great, e2 := datum.Carry(m, outer)
@@ -124,9 +125,9 @@ func TestOneAfterTheOther(t *testing.T) {
 			if e != api.OK || (i+k)%17 > 0 {
 				continue
 			}
-			for _, p := range sample(places(), 9) {
-				for _, q := range sample(fitting(t, m, p), 3) {
-					for _, r := range sample(fitting(t, n, q), 3) {
+			for _, p := range sample.Every(places(), 9) {
+				for _, q := range sample.Every(fitting(t, m, p), 3) {
+					for _, r := range sample.Every(fitting(t, n, q), 3) {
 						count++
 						if !expect.OK[bool](t)(datum.Fits(both, p, r)) {
 							t.Errorf("%v, %v, %v by %v and %v do not fit by %v", p, q, r, m, n, both)
@@ -221,7 +222,7 @@ func moves() []api.Point {
 func TestMoving(t *testing.T) {
 	fitted, applied := 0, 0
 	each(places(), func(m api.Datum, p api.Point) {
-		near := sample(fitting(t, m, p), 4)
+		near := sample.Every(fitting(t, m, p), 4)
 		for _, by := range moves() {
 			far := shifted(m, by.X, by.Y)
 			if !datum.Valid(far) {

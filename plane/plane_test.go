@@ -7,6 +7,7 @@ import (
 
 	"seamark/api"
 	"seamark/internal/expect"
+	"seamark/internal/sample"
 	"seamark/plane"
 )
 
@@ -59,15 +60,12 @@ func TestValid(t *testing.T) {
 			t.Errorf("%d is not valid", n)
 		}
 	}
-	for _, n := range beyond {
+	for _, n := range sample.Beyond(most) {
 		if plane.Valid(at(n, 0)) || plane.Valid(at(0, n)) || plane.Valid(at(n, n)) {
 			t.Errorf("%d is valid", n)
 		}
 	}
 }
-
-// beyond: no valid coordinates.
-var beyond = []int{-most - 1, most + 1, 2 * most, -1 << 32, 1 << 32, math.MinInt, math.MaxInt}
 
 // P1.1, A2, A3, A5 and A9: turns and distances of a place and a segment are those of the oracle.
 func TestPlaceAndSegment(t *testing.T) {
@@ -279,7 +277,7 @@ func TestNotValid(t *testing.T) {
 				p[i] = at(n, -n)
 				check(p, d, api.OK)
 			}
-			for _, n := range beyond {
+			for _, n := range sample.Beyond(most) {
 				for _, q := range []api.Point{at(n, 0), at(0, n), at(n, n)} {
 					p[i] = q
 					check(p, d, api.ErrArg)

@@ -2,11 +2,11 @@ package poly_test
 
 import (
 	"cmp"
-	"math"
 	"math/rand/v2"
 	"slices"
 
 	"seamark/api"
+	"seamark/internal/sample"
 )
 
 const most = api.MaxCoord
@@ -116,13 +116,7 @@ func smallPlace(r *rand.Rand) func() api.Point {
 }
 
 func widePlace(r *rand.Rand) func() api.Point {
-	number := func() int {
-		if r.IntN(2) == 0 {
-			return r.IntN(2*most+1) - most
-		}
-		return []int{-most, 1 - most, -most / 2, -1, 0, 1, most / 2, most - 1, most}[r.IntN(9)]
-	}
-	return func() api.Point { return at(number(), number()) }
+	return func() api.Point { return at(sample.UpTo(r, most), sample.UpTo(r, most)) }
 }
 
 // shapes returns polygons of the same places, with few corners and with many, the greatest ones with 24.
@@ -206,13 +200,10 @@ func eachShape(f func(p, places []api.Point)) {
 	}
 }
 
-// beyond has no valid coordinates.
-var beyond = []int{-most - 1, most + 1, 2 * most, -1 << 32, 1 << 32, math.MinInt, math.MaxInt}
-
 // notPlaces returns places that are not valid.
 func notPlaces() []api.Point {
 	var out []api.Point
-	for _, n := range beyond {
+	for _, n := range sample.Beyond(most) {
 		out = append(out, at(n, 0), at(0, n), at(n, n))
 	}
 	return out

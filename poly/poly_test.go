@@ -8,6 +8,7 @@ import (
 
 	"seamark/api"
 	"seamark/internal/expect"
+	"seamark/internal/sample"
 	"seamark/poly"
 )
 
@@ -417,7 +418,7 @@ func TestRect(t *testing.T) {
 			t.Errorf("Rect of %v: %v, %v", b, rect, e)
 		}
 	}
-	for _, n := range beyond {
+	for _, n := range sample.Beyond(most) {
 		for _, b := range []api.Box{box(min(n, 0), max(n, 0), 0, 1), box(0, 1, min(n, 0), max(n, 0)), box(n, n, n, n), box(n, n, 0, 1), box(0, 0, n, n)} {
 			if rect, e := poly.Rect(b); len(rect) != 0 || e != api.ErrArg {
 				t.Errorf("Rect of %v: %v, %v", b, rect, e)
